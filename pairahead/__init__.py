@@ -1,0 +1,1 @@
+"""Pairahead: call sites whose case lists are rearranged by rules on pairs."""
