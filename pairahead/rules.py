@@ -2,9 +2,8 @@
 
 from pairahead.errors import InvalidMix, InvalidRule, TooGreat
 from pairahead.integers import is_below, is_integer, is_positive, read_state
-from pairahead.tables import least_form, marked_rows, power_rows, power_starts
+from pairahead.tables import MOST_ROWS, least_form, marked_rows, power_rows, power_starts
 
-MOST_ROWS = 48
 MOST_MARKS = 4
 PLAIN_STARTS = (0,)
 MARKS_OF_STARTS = {1: 1, 4: 2, 9: 3, 16: 4}

@@ -1,5 +1,8 @@
 """Tables of rules as plain rows and starts: least forms, powers, and rules by states of single cases."""
 
+# So many rows may be given: for a rule, a row set or a claim.
+MOST_ROWS = 48
+
 
 def least_form(rows, starts):
     """Return the rows and the starts of the least form of a table, two tuples."""
