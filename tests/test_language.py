@@ -6,8 +6,8 @@ from pathlib import Path
 
 PACKAGE = Path(__file__).resolve().parent.parent / "pairahead"
 FILES = sorted(PACKAGE.rglob("*.py"))
-LIBRARY = {"heapq": {"heappush", "heappop", "heapify", "heapreplace", "heappushpop"},
-           "math": {"gcd", "lcm", "isqrt", "comb", "perm", "factorial"}, "__future__": {"annotations"}}
+# No heaps and no products: the package has classes that compare, and one that is iterated over and has a length.
+LIBRARY = {"math": {"gcd", "lcm", "isqrt", "comb", "perm", "factorial"}, "__future__": {"annotations"}}
 BUILTINS = set(
     "len range enumerate zip min max sum abs sorted reversed int str bool bytes list tuple dict set frozenset isinstance"
     " ord repr any all divmod iter next map super staticmethod classmethod property Exception ValueError TypeError"
@@ -82,7 +82,7 @@ class TestCode(unittest.TestCase):
             for node in tree.body:
                 plain = isinstance(node, (ast.ImportFrom, ast.FunctionDef, ast.ClassDef))
                 text = isinstance(node, ast.Expr) and isinstance(node.value, ast.Constant)
-                value = isinstance(node, ast.Assign) and not [
+                value = isinstance(node, ast.Assign) and isinstance(node.targets[0], ast.Name) and not [
                     part for part in ast.walk(node.value) if isinstance(part, (ast.Call, ast.comprehension))
                 ]
                 self.assertTrue(plain or text or value, (path, node.lineno))
@@ -106,6 +106,50 @@ class TestCode(unittest.TestCase):
                     self.assertNotIsInstance(node.value, (float, complex), path)
                     if isinstance(node.value, str):
                         self.assertNotIn("%", node.value, (path, node.lineno))
+
+    def test_what_classes_with_operators_forbid(self):
+        for path, tree in trees():
+            for node in ast.walk(tree):
+                self.assertNotIsInstance(node, ast.GeneratorExp, (path, node))
+                if isinstance(node, ast.Call) and isinstance(node.func, ast.Name):
+                    if node.func.id in ("sorted", "min", "max"):
+                        self.assertTrue(all(is_plain(part) for part in node.args), (path, node.lineno))
+                elif isinstance(node, ast.Call) and isinstance(node.func, ast.Attribute):
+                    self.assertNotEqual(node.func.attr, "sort", (path, node.lineno))
+
+    def test_exits_only_assign(self):
+        for path, tree in trees():
+            for node in ast.walk(tree):
+                if isinstance(node, ast.FunctionDef) and node.name == "__exit__":
+                    for part in ast.walk(ast.Module(node.body, [])):
+                        self.assertNotIsInstance(part, (ast.Call, ast.Subscript, ast.For, ast.BinOp), (path, node.lineno))
+
+    def test_is_stands_beside_none_and_booleans_only(self):
+        for path, tree in trees():
+            for node in ast.walk(tree):
+                if isinstance(node, ast.Compare) and isinstance(node.ops[0], (ast.Is, ast.IsNot)):
+                    self.assertIn(ast.unparse(node.comparators[0]), ("None", "True", "False"), (path, node.lineno))
+
+    def test_imports_do_not_go_round(self):
+        reached = {path.stem: set() for path in FILES}
+        for path, tree in trees():
+            for node in tree.body:
+                if isinstance(node, ast.ImportFrom) and node.module.startswith("pairahead."):
+                    reached[path.stem].add(node.module.split(".")[1])
+        for _ in FILES:
+            for stem, others in reached.items():
+                reached[stem] = others.union(*[reached[other] for other in others])
+        for stem, others in reached.items():
+            self.assertNotIn(stem, others)
+
+
+def is_plain(node):
+    """Tell whether a value is plainly a number: so it may be compared by sorted, min and max."""
+    if isinstance(node, ast.ListComp):
+        return is_plain(node.elt)
+    if isinstance(node, ast.Call) and isinstance(node.func, ast.Name):
+        return node.func.id in ("len", "int", "ord", "str", "repr")
+    return isinstance(node, ast.Constant)
 
 
 if __name__ == "__main__":
